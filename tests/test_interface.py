@@ -1,0 +1,62 @@
+"""The interface: names, files, arguments and the classes in which methods stand."""
+
+import inspect
+import unittest
+from importlib import import_module
+
+FUNCTIONS = {
+    "paths": ["shortest_path(graph, first, last, *, avoid=())"],
+    "components": ["components(graph)", "component_of(graph)", "kinds(graph)",
+                   "exits(graph, nodes)"],
+    "rings": ["ring_of(graph, nodes)", "rings(graph)"],
+    "reader": ["read(text)"],
+    "printer": ["show(tree)"],
+    "flow": ["graph_of(tree)", "name_of(node)", "tree_of(graph)"],
+    "runs": ["run_of(graph, choices, *, limit=400)", "log_of(graph, nodes)",
+             "price_of(graph, nodes)", "check_team(graph, runs)", "choices_of(graph, run)"],
+    "walker": ["walk(tree, choices, *, limit=400)"],
+    "schedules": ["prefixes(runs, schedule)", "is_complete(runs, schedule)",
+                  "thin(runs, schedule)"],
+}
+METHODS = {
+    ("graph", "Graph"): ["__init__(self, rows)", "rows(self)", "word(self, node)",
+                         "price(self, node)", "successors(self, node)", "__iter__(self)"],
+    ("rings", "Ring"): ["__init__(self, prices, doors, *, nodes=None)", "whole(self)",
+                        "far(self, first, second)", "gap_after(self, door, *, doors=None)",
+                        "greatest_gap(self, *, doors=None)", "cost(self, *, doors=None)",
+                        "start(self, *, doors=None)", "last(self, *, doors=None)"],
+    ("machine", "Machine"): ["__init__(self, graph, runs)", "standing(self)", "done(self)",
+                             "at(self, node)", "schedule(self)",
+                             "beat(self, node, *, lanes=None)"],
+}
+PROPERTIES = {("machine", "Machine"): ["over"]}
+
+
+class InterfaceTest(unittest.TestCase):
+    def test_functions(self):
+        for name, signatures in FUNCTIONS.items():
+            module = import_module("foreworth." + name)
+            for signature in signatures:
+                with self.subTest(module=name, signature=signature):
+                    found = getattr(module, signature.split("(")[0])
+                    self.assertEqual(found.__name__ + str(inspect.signature(found)), signature)
+                    self.assertEqual(found.__module__, module.__name__)
+
+    def test_methods(self):
+        for (name, owner), signatures in METHODS.items():
+            module = import_module("foreworth." + name)
+            self.assertEqual(getattr(module, owner).__module__, module.__name__)
+            for signature in signatures:
+                with self.subTest(owner=owner, signature=signature):
+                    found = vars(getattr(module, owner))[signature.split("(")[0]]
+                    self.assertEqual(found.__name__ + str(inspect.signature(found)), signature)
+
+    def test_properties(self):
+        for (name, owner), names in PROPERTIES.items():
+            for found in names:
+                member = vars(getattr(import_module("foreworth." + name), owner))[found]
+                self.assertIsInstance(member, property)
+
+
+if __name__ == "__main__":
+    unittest.main()
