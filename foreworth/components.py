@@ -100,7 +100,7 @@ def unowned_before(start, before, owner):
     layer = [start]
     while layer:
         following = []
-        for node in layer:
+        for node in list(layer):
             for earlier in before[node]:
                 if owner[earlier] is None and earlier not in met:
                     met[earlier] = True

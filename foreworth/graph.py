@@ -81,7 +81,7 @@ def led_to(starts, edges):
     layer = starts
     while layer:
         following = []
-        for node in layer:
+        for node in list(layer):
             for target in edges[node]:
                 if not met[target]:
                     met[target] = True

@@ -28,7 +28,7 @@ def steps_to(graph, last, avoid):
     steps = {node: 0 for node in layer}
     while layer:
         following = []
-        for node in layer:
+        for node in list(layer):
             for earlier in before[node]:
                 if earlier not in steps and earlier not in avoid:
                     steps[earlier] = steps[node] + 1

@@ -5,6 +5,8 @@ import builtins
 import unittest
 from pathlib import Path
 
+from tests.loops import changed_loops
+
 PACKAGE = Path(__file__).resolve().parent.parent / "foreworth"
 LIBRARY = {
     "heapq": {"heappush", "heappop", "heapify", "heapreplace", "heappushpop"},
@@ -23,6 +25,53 @@ STATEMENTS = (
     ast.Pass, ast.Raise, ast.Expr, ast.FunctionDef, ast.ClassDef, ast.ImportFrom, ast.Try,
     ast.Assert, ast.Delete,
 )
+# L23: loops that change what they go over, each with the row of the change.
+CHANGED_LOOPS = [
+    # The three places that were in graph, paths and components: the list that is
+    # appended to gets the name of the list that the loop goes over.
+    (9, """
+def led_to(starts, edges):
+    layer = starts
+    while layer:
+        following = []
+        for node in layer:
+            for target in edges[node]:
+                if not met[target]:
+                    following.append(target)
+        layer = following
+"""),
+    (8, """
+def steps_to(steps, before, layer):
+    while layer:
+        following = []
+        for node in layer:
+            for earlier in before[node]:
+                steps[earlier] = steps[node] + 1
+                following.append(earlier)
+        layer = following
+"""),
+    (7, """
+def unowned_before(layer, before):
+    while layer:
+        following = []
+        for node in layer:
+            for earlier in before[node]:
+                following.append(earlier)
+        layer = following
+"""),
+    (4, "\ndef one(rows):\n    for row in rows:\n        rows.append(row)\n"),
+    (4, "\ndef one(rows):\n    for at, row in enumerate(rows):\n        rows[at] = row\n"),
+    (4, "\ndef one(rows):\n    for key, row in rows.items():\n        del rows[key]\n"),
+    (4, "\ndef one(self, box):\n    for row in self.rows:\n        box.rows.pop()\n"),
+    (4, "\ndef one(heap):\n    for row in heap:\n        heappush(heap, row)\n"),
+    (4, "\ndef one(a, b):\n    for row in a or b:\n        b.append(row)\n"),
+    (3, "\ndef one(rows):\n    return [rows.pop() for row in rows]\n"),
+]
+UNCHANGED_LOOPS = [
+    "\ndef one(rows):\n    for row in list(rows):\n        rows.append(row)\n",
+    "\ndef one(rows, out):\n    for row in rows:\n        out.append(row)\n",
+    "\ndef one(rows):\n    for row in rows:\n        row.append(1)\n",
+]
 
 
 def sources():
@@ -101,6 +150,16 @@ class LanguageTest(unittest.TestCase):
                     self.assertNotIsInstance(part.value, (float, complex), path)
                     if isinstance(part.value, str):
                         self.assertNotIn(chr(37), part.value, path)
+
+    def test_loops_do_not_change_what_they_go_over(self):
+        for path, _, tree in sources():
+            self.assertEqual(changed_loops(tree), [], path)
+
+    def test_changed_loops_are_found(self):
+        for row, text in CHANGED_LOOPS:
+            self.assertEqual(changed_loops(ast.parse(text)), [row], text)
+        for text in UNCHANGED_LOOPS:
+            self.assertEqual(changed_loops(ast.parse(text)), [], text)
 
     def test_names(self):
         known = set(dir(builtins))
