@@ -2,6 +2,7 @@
 
 from random import Random
 
+from foreworth.components import kinds
 from foreworth.errors import ForeworthError
 from foreworth.flow import graph_of
 from foreworth.graph import END, Graph
@@ -93,3 +94,48 @@ def random_runs(graph, many, *, seed=4):
         elif seed > 0 and source.randint(0, 9) == 0:
             break
     return found
+
+# Nodes 1 to 3 are a wild component: node 1 goes on to 2 or 3, both come back to it.
+WILD = [("a", 1, (1,)), ("b", 2, (2, 3)), ("c", 3, (1,)), ("d", 1, (1, 4)), ("e", 5, (END,))]
+
+# A ring of nodes 0 and 1, which has one door, then a ring of nodes 2, 3 and 4 with three
+# doors, then node 5, then a ring of node 6 alone.
+THREE_RINGS = [
+    ("a", 2, (1, 2)), ("b", 3, (0, 3, 4, 5)), ("c", 4, (3, 5)), ("d", 1, (4,)),
+    ("e", 6, (2, 5)), ("f", 1, (6, END)), ("g", 7, (6, END)),
+]
+
+
+def tame_graphs(many, *, most=7, seed=5):
+    """The list of that many graphs without wild components, some of them with several doors."""
+    found = []
+    while len(found) < many:
+        for graph in random_graphs(200, most=most, seed=seed):
+            if "wild" not in kinds(graph) and ("ring" in kinds(graph) or len(found) < 5):
+                found.append(graph)
+        seed += 1
+    return found[:many]
+
+
+def ring_graph(ring):
+    """A graph with this ring as nodes 1 and more, which is left from each of its nodes.
+
+    Node 0 and the nodes behind the ring, with price 1, lead to the doors.
+    """
+    inner = [position + 1 for position in range(ring.size)]
+    rows = [("r", price, (position % ring.size + 1, END))
+            for position, price in zip(inner, ring.prices)]
+    chain = list(ring.doors)
+    first = [("s", 1, (chain[0] + 1, ring.size + 1) if len(chain) > 1 else (chain[0] + 1,))]
+    behind = []
+    for place, door in enumerate(chain[1:], start=1):
+        onward = (ring.size + 1 + place,) if place + 1 < len(chain) else ()
+        behind.append(("s", 1, (door + 1, *onward)))
+    return Graph(first + rows + behind)
+
+
+def ring_run(ring, door, length):
+    """The run of that graph with a stay of this length from this door."""
+    steps = ring.doors.index(door)
+    way = [0] + [ring.size + place for place in range(1, steps + 1)]
+    return way + [(door + step) % ring.size + 1 for step in range(length)]

@@ -17,6 +17,18 @@ FUNCTIONS = {
     "walker": ["walk(tree, choices, *, limit=400)"],
     "schedules": ["prefixes(runs, schedule)", "is_complete(runs, schedule)",
                   "thin(runs, schedule)"],
+    "laying": ["union_price(ring, stays, start)", "union_beats(ring, stays, start)",
+               "least_laying(ring, stays)"],
+    "fronts": ["front_heights(prices, rows)", "least_row(prices, rows)",
+               "check_heights(prices, rows, heights, claim)"],
+    "least": ["stretches(graph, run)", "least_by_component(graph, runs)", "least(graph, runs)",
+              "loss(graph, runs, schedule)", "loss_by_component(graph, runs, schedule)"],
+    "worth": ["worth(graph)", "is_worthless(graph)"],
+    "papers": ["worth_paper(graph)", "check_paper(graph, paper)"],
+    "routes": ["route_of(graph, run)", "doors_met(graph, runs)", "route_cost(graph, runs)",
+               "full_routes(graph)"],
+    "few": ["few_cost(ring, lanes)", "lanes_for(ring, cost)", "leaps(ring, door, lanes, cost)",
+            "few_paper(ring, lanes)", "check_few(ring, lanes, paper)"],
 }
 METHODS = {
     ("graph", "Graph"): ["__init__(self, rows)", "rows(self)", "word(self, node)",

@@ -6,20 +6,7 @@ from itertools import product
 from foreworth.graph import END, Graph
 from foreworth.paths import shortest_path
 from tests.samples import random_graphs
-
-
-def all_paths(graph, first, last, avoid):
-    """All paths without repeated nodes, found by going on from each node."""
-    found = []
-    ahead = [[first]] if first not in avoid else []
-    while ahead:
-        path = ahead.pop()
-        if path[-1] == last or (last == END and END in graph.successors(path[-1])):
-            found.append(path)
-        for target in graph.successors(path[-1]):
-            if target != END and target not in path and target not in avoid:
-                ahead.append([*path, target])
-    return found
+from tests.slow import all_paths
 
 
 class PathsTest(unittest.TestCase):
