@@ -52,6 +52,12 @@ class Parts:
         """The stay that a stretch in a ring is."""
         return (self.position[nodes[0]], len(nodes))
 
+    def going_round(self, node, many):
+        """So many nodes of a ring, going round from the given one."""
+        ring = self.rings[self.owner[node]]
+        first = self.position[node]
+        return [ring.nodes[place % ring.size] for place in range(first, first + many)]
+
 
 def tame_parts(graph):
     """The parts of a graph, or WildProgram if it has a wild component."""

@@ -2,7 +2,6 @@
 
 from random import Random
 
-from foreworth.components import kinds
 from foreworth.errors import ForeworthError
 from foreworth.flow import graph_of
 from foreworth.graph import END, Graph
@@ -107,14 +106,46 @@ THREE_RINGS = [
 
 
 def tame_graphs(many, *, most=7, seed=5):
-    """The list of that many graphs without wild components, some of them with several doors."""
+    """The list of that many graphs without wild components, many of them with several doors."""
+    source = Random(seed)
     found = []
     while len(found) < many:
-        for graph in random_graphs(200, most=most, seed=seed):
-            if "wild" not in kinds(graph) and ("ring" in kinds(graph) or len(found) < 5):
-                found.append(graph)
-        seed += 1
-    return found[:many]
+        layers = random_layers(source, most)
+        try:
+            found.append(Graph(layered_rows(source, layers)))
+        except ForeworthError:
+            pass
+    return found
+
+
+def random_layers(source, most):
+    """Lists of the nodes from 0 to less than `most`; the ones behind the first are mixed up."""
+    nodes = list(range(1, source.randint(1, most)))
+    source.shuffle(nodes)
+    layers = [[0]]
+    if source.randint(0, 4) == 0:
+        layers[0] += nodes[:2]
+        nodes = nodes[2:]
+    while nodes:
+        size = source.choice([1, 1, 2, 3, 4])
+        layers.append(nodes[:size])
+        nodes = nodes[size:]
+    return layers
+
+
+def layered_rows(source, layers):
+    """Rows for these layers: rings or single nodes, which lead to later layers alone."""
+    rows = {}
+    for place, layer in enumerate(layers):
+        later = ([node for other in layers[place + 1:] for node in other] + [END])[:5]
+        ring = len(layer) > 1 or source.randint(0, 4) == 0
+        for at, node in enumerate(layer):
+            many = source.randint(0, 2) if ring else source.randint(2, 3)
+            targets = [source.choice(later) for _ in range(many)]
+            if ring:
+                targets.insert(source.randint(0, many), layer[(at + 1) % len(layer)])
+            rows[node] = ("abc"[source.randint(0, 2)], source.randint(1, 9), tuple(targets))
+    return [rows[node] for node in range(len(rows))]
 
 
 def ring_graph(ring):

@@ -29,7 +29,16 @@ FUNCTIONS = {
                "full_routes(graph)"],
     "few": ["few_cost(ring, lanes)", "lanes_for(ring, cost)", "leaps(ring, door, lanes, cost)",
             "few_paper(ring, lanes)", "check_few(ring, lanes, paper)"],
+    "pairs": ["pair_worth(graph)", "pair_heights(graph)",
+              "check_pair_heights(graph, heights, claim)", "pair_routes(graph)"],
+    "helper": ["word_count(graph, routes)", "word_of(graph, runs)",
+               "word_doors(graph, routes, word)", "word_team(graph, routes, word)"],
+    "changes": ["with_price(graph, node, price)", "with_successor(graph, node, target)",
+                "without_successor(graph, node, place)", "split_node(graph, node, first)",
+                "split_run(run, node, added)"],
+    "sweeps": ["back_steps(graph, order, run)"],
 }
+PICK = "pick(self, standing, *, shown=None)"
 METHODS = {
     ("graph", "Graph"): ["__init__(self, rows)", "rows(self)", "word(self, node)",
                          "price(self, node)", "successors(self, node)", "__iter__(self)"],
@@ -40,6 +49,15 @@ METHODS = {
     ("machine", "Machine"): ["__init__(self, graph, runs)", "standing(self)", "done(self)",
                              "at(self, node)", "schedule(self)",
                              "beat(self, node, *, lanes=None)"],
+    ("policies", "LeastNode"): [PICK],
+    ("policies", "MostLanes"): [PICK],
+    ("policies", "ByRow"): ["__init__(self, row)", PICK],
+    ("policies", "Peek"): [PICK],
+    ("policies", "Fixed"): ["__init__(self, row)", PICK],
+    ("rounds", "RoundFrom"): ["__init__(self, graph, nodes)", PICK],
+    ("rounds", "BehindGap"): ["__init__(self, graph)", PICK],
+    ("rounds", "BehindNow"): ["__init__(self, graph)", PICK],
+    ("sweeps", "Sweep"): ["__init__(self, graph, order)", PICK],
 }
 PROPERTIES = {("machine", "Machine"): ["over"]}
 

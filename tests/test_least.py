@@ -9,7 +9,7 @@ from foreworth.graph import END, Graph
 from foreworth.least import least, least_by_component, loss, loss_by_component, stretches
 from foreworth.runs import price_of
 from foreworth.schedules import is_complete
-from tests.samples import THREE_RINGS, TWO_DOORS, WILD, random_graphs, random_runs
+from tests.samples import THREE_RINGS, TWO_DOORS, WILD, random_graphs, random_runs, tame_graphs
 from tests.slow import cheapest_bill
 
 
@@ -17,7 +17,7 @@ def short_teams(many, *, seed):
     """Pairs of a random graph and a small team of it."""
     source = Random(seed)
     found = []
-    for graph in random_graphs(many, most=6, seed=seed):
+    for graph in random_graphs(many, most=6, seed=seed) + tame_graphs(many, most=10, seed=seed):
         runs = random_runs(graph, 4, seed=source.randint(1, 99))
         short = [run for run in runs if len(run) <= 14][:3]
         found.append((graph, short))

@@ -9,7 +9,7 @@ from foreworth.graph import END, Graph
 from foreworth.papers import check_paper, worth_paper
 from foreworth.rings import rings
 from foreworth.worth import worth
-from tests.samples import THREE_RINGS, TWO_DOORS, WILD, random_graphs
+from tests.samples import THREE_RINGS, TWO_DOORS, WILD, random_graphs, tame_graphs
 from tests.slow import all_paths
 
 # Nodes 1 and 2 make a ring with doors at both; node 3 is single.
@@ -103,7 +103,7 @@ class OwnPapersTest(unittest.TestCase):
         self.assertEqual(worth_paper(graph), ("endless", [0, 1], [2, 1]))
 
     def test_own_papers(self):
-        for graph in random_graphs(300):
+        for graph in random_graphs(200) + tame_graphs(200, most=10):
             paper = worth_paper(graph)
             self.assertIs(check_paper(graph, paper), True)
             self.assertIs(slow_check(graph, paper), True)
@@ -315,7 +315,7 @@ class MutatedPapersTest(unittest.TestCase):
     def test_against_slow_checks(self):
         source = Random(31)
         told = {True: 0, False: 0}
-        for graph in random_graphs(300):
+        for graph in random_graphs(150) + tame_graphs(150, most=8):
             for _ in range(6):
                 paper = self.mutate(source, graph.size, worth_paper(graph))
                 answer = slow_check(graph, paper)

@@ -6,7 +6,7 @@ from foreworth.components import components, kinds
 from foreworth.graph import END, Graph
 from foreworth.rings import Ring
 from foreworth.worth import is_worthless, worth
-from tests.samples import THREE_RINGS, TWO_DOORS, WILD, random_graphs, ring_graph
+from tests.samples import THREE_RINGS, TWO_DOORS, WILD, random_graphs, ring_graph, tame_graphs
 
 
 def slow_worth(graph):
@@ -71,7 +71,7 @@ class WorthTest(unittest.TestCase):
 
     def test_against_slow_worth(self):
         told = []
-        for graph in random_graphs(300):
+        for graph in random_graphs(200) + tame_graphs(200, most=10):
             value = slow_worth(graph)
             told.append(value)
             self.assertEqual(worth(graph), value)
