@@ -9,7 +9,7 @@ class Sweep:
     """Names the nodes of a component in an order, again and again."""
 
     def __init__(self, graph, order):
-        self._place = places_in(graph, order)
+        self._rank = places_in(graph, order)
         self._order = list(order)
         self._owner = component_of(graph)
         self._last = {}
@@ -18,7 +18,7 @@ class Sweep:
         """The node of the next beat."""
         nodes = [node for node in standing if node != END]
         component = min([self._owner[node] for node in nodes])
-        places = [self._place[node] for node in nodes if self._owner[node] == component]
+        places = [self._rank[node] for node in nodes if self._owner[node] == component]
         ahead = [place for place in places if place > self._last.get(component, -1)]
         found = min(ahead or places)
         self._last[component] = found

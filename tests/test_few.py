@@ -159,6 +159,11 @@ class FewPaperTest(unittest.TestCase):
         for doors in ([], [0], [3], [3, 0], [0, 0], [0, 3, 3], [0, 2, 3], [2, 1], [2, -1], [-1],
                       [-3, 4], [2, 5], [2, 99], [2, 3], [0, 3], [4, 2], [2, 2], [2, 4, 4]):
             self.check(6, doors, self.rows, False)
+        # A door twice, where all else holds.
+        ring = Ring([4, 3], [0, 1])
+        self.assertIs(check_few(ring, 3, (3, [0, 1], [[0], [1, 0]])), True)
+        self.assertIs(check_few(ring, 3, (3, [0, 1, 1], [[0], [1, 0]])), False)
+        self.assertIs(check_few(ring, 3, (3, [0, 0, 1], [[0], [1, 0]])), False)
         # More doors than lanes, with that very cost.
         rows = [leaps(self.ring, door, 2, 10) for door in self.ring.doors]
         self.check(10, [0, 2, 3], rows, False)

@@ -285,6 +285,12 @@ class EndlessTest(unittest.TestCase):
     def test_other_forms(self):
         self.assertIs(check_paper(Graph(WILD), ("finite", [0, 1, 1, 1, 2], [], 0)), False)
         self.assertIs(check_paper(Graph(TWO_DOORS), ("endless", [2, 1], [2, 1])), False)
+        # Neither of the two forms.
+        for paper in ((), ("finite",), ("finite", NUMBERS, [ENTRY]), ("endless", [2, 1]),
+                      ("endless", [2, 1], [3, 1], 0), ("worth", [2, 1], [3, 1]),
+                      ("worth", NUMBERS, [ENTRY], 3)):
+            self.assertIs(check_paper(Graph(WILD), paper), False)
+            self.assertIs(check_paper(Graph(TWO_DOORS), paper), False)
 
 
 class MutatedPapersTest(unittest.TestCase):

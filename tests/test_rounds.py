@@ -1,6 +1,7 @@
 """Points 60 and 61: going round in rings."""
 
 import unittest
+from random import Random
 
 from foreworth.components import components
 from foreworth.errors import BadDoors, WildProgram
@@ -19,6 +20,32 @@ from tests.samples import (
 EVEN = Ring([2, 3, 5, 1, 4], [0, 2, 3])
 # The same one with another price: the gap of 9 behind node 1 ends at node 3.
 UNEVEN = Ring([6, 3, 5, 1, 4], [0, 2, 3])
+
+
+class SlowRounds:
+    """Points 60 and 61, node by node; `first` tells the node at which to begin in a ring."""
+
+    def __init__(self, graph, first):
+        self.graph = graph
+        self.first = first
+        self.places = {}
+
+    def pick(self, standing, *, shown=None):
+        nodes = next(nodes for nodes in components(self.graph) if set(nodes) & set(standing))
+        ring = next((ring for ring in rings(self.graph) if ring.nodes[0] in nodes), None)
+        if ring is None:
+            return nodes[0]
+        place = self.places.get(ring.nodes, self.first(ring, standing))
+        while ring.nodes[place] not in standing:
+            place = (place + 1) % ring.size
+        self.places[ring.nodes] = (place + 1) % ring.size
+        return ring.nodes[place]
+
+
+def first_now(ring, standing):
+    """The start of the doors at which lanes stand, of all doors if there is none."""
+    doors = [door for door in ring.doors if ring.nodes[door] in standing]
+    return ring.start(doors=tuple(doors) if doors else None)
 
 
 class RoundFromTest(unittest.TestCase):
@@ -136,6 +163,8 @@ class BehindNowTest(unittest.TestCase):
         self.assertEqual(BehindNow(graph).pick([1, 4, 3]), 1)
         # Lanes elsewhere do not count, neither in the ring nor behind it.
         self.assertEqual(BehindNow(graph).pick([1, 4, 2, END]), 4)
+        # Doors without lanes do not count: behind node 1 there are 11 up to node 3.
+        self.assertEqual(BehindNow(ring_graph(Ring([1, 10, 1, 1], [0, 1, 2, 3]))).pick([1, 3]), 3)
 
     def test_only_the_first_pick_counts(self):
         policy = BehindNow(ring_graph(EVEN))
@@ -154,6 +183,32 @@ class BehindNowTest(unittest.TestCase):
         # Doors 3 and 4 of the prices 4, 1, 6: the gap of 10 ends at node 3.
         self.assertEqual(policy.pick([4, 3]), 3)
         self.assertEqual(policy.pick([4, 2]), 4)
+
+
+class SlowRoundsTest(unittest.TestCase):
+    def check(self, graph, runs):
+        told = [ring.nodes[-1] for ring in rings(graph)]
+        policies = [
+            (BehindGap(graph), lambda ring, standing: ring.start()),
+            (BehindNow(graph), first_now),
+            (RoundFrom(graph, told), lambda ring, standing: ring.size - 1),
+        ]
+        for policy, first in policies:
+            self.assertEqual(played(graph, runs, policy),
+                             played(graph, runs, SlowRounds(graph, first)))
+
+    def test_random_graphs(self):
+        for graph in tame_graphs(60, most=10):
+            self.check(graph, random_runs(graph, 5))
+
+    def test_random_rings(self):
+        source = Random(71)
+        for _ in range(60):
+            size = source.randint(2, 7)
+            prices = [source.randint(1, 9) for _ in range(size)]
+            ring = Ring(prices, sorted(source.sample(range(size), source.randint(2, size))))
+            self.check(ring_graph(ring), [ring_run(ring, source.choice(ring.doors), source.randint(1, 15))
+                                          for _ in range(source.randint(1, 4))])
 
 
 class FactsTest(unittest.TestCase):
