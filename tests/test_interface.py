@@ -37,8 +37,12 @@ FUNCTIONS = {
                 "without_successor(graph, node, place)", "split_node(graph, node, first)",
                 "split_run(run, node, added)"],
     "sweeps": ["back_steps(graph, order, run)"],
+    "plays": ["play(graph, runs, policy, *, sight=None)"],
+    "duel": ["duel(adversary, policy)"],
 }
 PICK = "pick(self, standing, *, shown=None)"
+FOE = ["beat(self, node, *, lanes=None)", "standing(self)", "shown(self)", "schedule(self)",
+       "runs(self)"]
 METHODS = {
     ("graph", "Graph"): ["__init__(self, rows)", "rows(self)", "word(self, node)",
                          "price(self, node)", "successors(self, node)", "__iter__(self)"],
@@ -58,8 +62,21 @@ METHODS = {
     ("rounds", "BehindGap"): ["__init__(self, graph)", PICK],
     ("rounds", "BehindNow"): ["__init__(self, graph)", PICK],
     ("sweeps", "Sweep"): ["__init__(self, graph, order)", PICK],
+    ("ledger", "Ledger"): ["__init__(self, graph)", "add(self, runs, schedule)", "losses(self)",
+                           "__iter__(self)", "__add__(self, other)"],
+    ("adversary", "RingAdversary"): ["__init__(self, graph, routes, *, sight=0)", *FOE],
+    ("wildfoe", "WildAdversary"): ["__init__(self, graph, target, *, sight=0)", *FOE],
+    ("ringgame", "RingGame"): ["__init__(self, ring, longest, *, sight=0)", "starts(self)",
+                               "moves(self, state)", "replies(self, state, move)",
+                               "value_of(self, state)", "value(self)", "best_move(self, state)",
+                               "best_reply(self, state, move)"],
 }
-PROPERTIES = {("machine", "Machine"): ["over"]}
+PROPERTIES = {
+    ("machine", "Machine"): ["over"],
+    ("ledger", "Ledger"): ["total", "worst"],
+    ("adversary", "RingAdversary"): ["over"],
+    ("wildfoe", "WildAdversary"): ["over"],
+}
 
 
 class InterfaceTest(unittest.TestCase):
