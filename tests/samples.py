@@ -170,3 +170,42 @@ def ring_run(ring, door, length):
     steps = ring.doors.index(door)
     way = [0] + [ring.size + place for place in range(1, steps + 1)]
     return way + [(door + step) % ring.size + 1 for step in range(length)]
+
+
+def plain_graphs(many, *, most=9, seed=6):
+    """Graphs with few words and prices, so that many of their nodes are alike."""
+    source = Random(seed)
+    found = []
+    while len(found) < many:
+        size = source.randint(1, most)
+        rows = []
+        for node in range(size):
+            targets = [source.randint(END, size - 1) for _ in range(source.randint(1, 2))]
+            rows.append(("ab"[source.randint(0, 6) // 6], 1, tuple(targets)))
+        try:
+            found.append(Graph(rows))
+        except ForeworthError:
+            pass
+    return found
+
+
+def random_cover(graph, sheets, *, seed=7):
+    """A graph that covers the given one, with up to so many nodes above each, and the mapping."""
+    source = Random(seed)
+    number = {(0, 0): 0}
+    ahead = [(0, 0)]
+    rows = []
+    for node, _ in ahead:
+        word, price, targets = graph.rows()[node]
+        above = []
+        for target in targets:
+            place = (target, source.randint(0, sheets - 1))
+            if target == END:
+                above.append(END)
+                continue
+            if place not in number:
+                number[place] = len(ahead)
+                ahead.append(place)
+            above.append(number[place])
+        rows.append((word, price, tuple(above)))
+    return Graph(rows), [node for node, _ in ahead]

@@ -39,6 +39,14 @@ FUNCTIONS = {
     "sweeps": ["back_steps(graph, order, run)"],
     "plays": ["play(graph, runs, policy, *, sight=None)"],
     "duel": ["duel(adversary, policy)"],
+    "covers": ["covers(top, bottom, mapping)", "picture(mapping, run)", "lift(top, bottom, run)",
+               "extra(top, bottom, runs)"],
+    "projected": ["check_cover(top, bottom, mapping)"],
+    "joins": ["join(graph)"],
+    "folds": ["fold(graph)", "difference(first, second)"],
+    "blocks": ["blocks(graph)", "block_run(found, run)"],
+    "journal": ["write_deed(deed)", "read_deed(line)"],
+    "desk": ["replay(text)"],
 }
 PICK = "pick(self, standing, *, shown=None)"
 FOE = ["beat(self, node, *, lanes=None)", "standing(self)", "shown(self)", "schedule(self)",
@@ -70,6 +78,15 @@ METHODS = {
                                "moves(self, state)", "replies(self, state, move)",
                                "value_of(self, state)", "value(self)", "best_move(self, state)",
                                "best_reply(self, state, move)"],
+    ("projected", "Projected"): ["__init__(self, top, bottom, mapping, policy)", PICK],
+    ("desk", "Desk"): ["__init__(self)", "enter(self, name, text)", "drop(self, name)",
+                       "set_price(self, name, node, price)",
+                       "add_successor(self, name, node, target)",
+                       "cut_successor(self, name, node, place)",
+                       "put_team(self, name, team, rows)", "undo(self)", "redo(self)",
+                       "programs(self)", "program(self, name)", "teams(self, name)",
+                       "foresight(self, name)", "team_runs(self, name, team)",
+                       "report(self, name, team, policy)", "journal(self)"],
 }
 PROPERTIES = {
     ("machine", "Machine"): ["over"],
