@@ -91,13 +91,13 @@ class Contest:
         self._legs = {}
         self._lengths = {}
         self._spent = {}
-        self._held = {}
+        self._doors = {}
 
     def welcome(self, lane, leg, rounds):
         """Let a lane come to the ring; it holds its door if it is the first one there."""
         self._legs[lane] = leg
-        if rounds[0] not in self._held:
-            self._held[rounds[0]] = True
+        if rounds[0] not in self._doors:
+            self._doors[rounds[0]] = True
             self._lengths[lane] = leg.length
             self._spent[lane] = 0
             leg.nodes = rounds
@@ -124,6 +124,6 @@ class Contest:
         self._end_behind(staying, self._size + max(others, default=0))
 
     def _end_behind(self, lane, least):
-        """Give a holder the least length that is decided, not below `least` and fits."""
+        """Give a holder the least length that fits its route, not below `least` nor what is decided."""
         leg = self._legs[lane]
         leg.length = length_from(max(least, leg.decided), self._lengths[lane], self._size)

@@ -17,7 +17,7 @@ def join(graph):
         rows.append((word, price, replaced(targets, outward)))
     for node in copied:
         rows.append((graph.word(node), graph.price(node), replaced(graph.successors(node), copies)))
-    return (Graph(rows), [*range(graph.size), *copied])
+    return (Graph(rows), list(range(graph.size)) + copied)
 
 
 def copied_nodes(parts):

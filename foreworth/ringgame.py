@@ -24,12 +24,12 @@ class RingGame:
 
     def moves(self, state):
         """The ascending list of the positions at which lanes stand."""
-        return sorted({place for place in self._places(state) if place is not None})
+        return sorted({place for place in self._positions(state) if place is not None})
 
     def replies(self, state, move):
         """The ascending list of the states to which a move may lead."""
         choices = []
-        for pair, place in zip(state, self._places(state)):
+        for pair, place in zip(state, self._positions(state)):
             choices.append(self._pairs_behind(pair) if place == move else [pair])
         return all_rows(choices)
 
@@ -53,7 +53,7 @@ class RingGame:
         values = [self._values[reply] for reply in replies]
         return replies[values.index(max(values))]
 
-    def _places(self, state):
+    def _positions(self, state):
         """The list with, for each lane, the position at which it stands, or None."""
         # Before the first move, an unknown length equals what is done, but it is no end.
         return [None if 0 < done == length else (door + done) % self._ring.size

@@ -55,6 +55,10 @@ class CoversTest(unittest.TestCase):
         self.assertIs(covers(bottom, bottom, [0, 1]), True)
         self.assertIs(covers(bottom, bottom, [0, -1]), False)
         self.assertIs(covers(bottom, bottom, [-2, -1]), False)
+        # Here -1 could be taken for END in row 0, and for the last node below node 2.
+        bottom = Graph([("a", 1, (1, END)), ("b", 1, (END,))])
+        top = Graph([("a", 1, (1, 2)), ("b", 1, (END,)), ("b", 1, (END,))])
+        self.assertIs(covers(top, bottom, [0, 1, -1]), False)
 
     def test_other_nodes(self):
         for place in range(5):

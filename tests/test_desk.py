@@ -18,10 +18,13 @@ from foreworth.plays import play
 from foreworth.policies import LeastNode, MostLanes
 from foreworth.printer import show
 from foreworth.reader import read
+from foreworth.rings import Ring
 from foreworth.rounds import BehindGap, BehindNow
-from foreworth.runs import price_of, run_of
+from foreworth.runs import choices_of, price_of, run_of
 from foreworth.worth import worth
-from tests.samples import TWO_DOORS, WILD, tame_graphs
+from tests.samples import TWO_DOORS, WILD, ring_graph, ring_run, tame_graphs
+
+UNEVEN = Ring([6, 3, 5, 1, 4], [0, 2, 3])
 
 PAIR = "choose a 1\narm\ndo b 4\narm\nclose\nloop\nchoose c 3\narm\nleave\narm\nclose\nclose"
 PAIR_ROWS = [("a", 1, (1, 2)), ("b", 4, (2,)), ("c", 3, (END, 2))]
@@ -407,6 +410,15 @@ class QuestionTest(DeskCase):
         self.assertEqual(self.desk.report("q", "t", "gap"), (13, 13, 0))
         self.desk.put_team("q", "none", [])
         self.assertEqual(self.desk.report("q", "none", "now"), (0, 0, 0))
+
+    def test_each_policy_of_a_report(self):
+        # A ring of five nodes with doors at nodes 1, 3 and 4, as in the tests of rounds.
+        graph = ring_graph(UNEVEN)
+        self.desk.enter("q", text_of(graph.rows()))
+        runs = [ring_run(UNEVEN, door, length) for door, length in ((0, 4), (2, 1), (2, 5))]
+        self.desk.put_team("q", "t", [choices_of(graph, run) for run in runs])
+        for name, bill in (("least", 36), ("most", 35), ("gap", 27), ("now", 30)):
+            self.assertEqual(self.desk.report("q", "t", name), (bill, 27, bill - 27))
 
     def test_errors_of_reports(self):
         for team in ("t", "s"):

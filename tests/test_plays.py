@@ -97,14 +97,17 @@ class PlayTest(unittest.TestCase):
 
     def test_arguments_stay_and_the_schedule_is_new(self):
         runs = [list(run) for run in RUNS]
+        seen = []
 
         class Spoiling:
             def pick(self, standing, *, shown=None):
+                seen.append(shown)
                 for run in runs:
                     run.clear()
                 return min(node for node in standing if node != END)
 
-        self.assertEqual(play(self.graph, runs, Spoiling(), sight=2), [0, 1, 2, 3])
+        self.assertEqual(play(self.graph, runs, Spoiling(), sight=1), [0, 1, 2, 3])
+        self.assertEqual(seen, [[[1], [2], [1]], [[2], [3], []], [[3], [3], []], [[], [], []]])
         row = [0, 2, 3, 1, 2, 3]
         policy = Fixed(row)
         schedule = play(self.graph, RUNS, policy)

@@ -213,7 +213,7 @@ class ProjectedTest(unittest.TestCase):
 
     def test_numbers_that_are_no_nodes(self):
         # END is below END, so a play ends where the row of the inner policy does.
-        for row, node in (([0, END], END), ([0], END), ([0, 7], 7), ([0, -2], -2)):
+        for row, node in (([0, END], END), ([0], END), ([0, 5], 5), ([0, 7], 7), ([0, -2], -2)):
             with self.assertRaises(NotStanding) as caught:
                 play(self.bottom, [[0, 1], [0, 2, 3]], self.projected(Fixed(row)))
             self.assertEqual(caught.exception.node, node)
