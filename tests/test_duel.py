@@ -9,13 +9,15 @@ from foreworth.graph import END, Graph
 from foreworth.least import loss
 from foreworth.plays import play
 from foreworth.policies import ByRow, Fixed, LeastNode, MostLanes, Peek
-from foreworth.rounds import BehindGap, BehindNow
+from foreworth.rings import rings
+from foreworth.rounds import BehindGap, BehindNow, RoundFrom
 from foreworth.routes import full_routes, route_cost
+from foreworth.runs import price_of
 from foreworth.sweeps import Sweep
 from foreworth.wildfoe import WildAdversary
 from foreworth.worth import worth
 from tests.playing import Listening
-from tests.samples import TWO_DOORS, WILD, random_runs, tame_graphs
+from tests.samples import TWO_DOORS, WILD, random_graphs, random_runs, tame_graphs
 
 ROUTES = [[0, 1, 2, 3], [0, 2, 3]]
 
@@ -110,6 +112,26 @@ class DuelTest(unittest.TestCase):
                 self.assertEqual(play(graph, runs, second), schedule)
                 self.assertGreaterEqual(loss(graph, runs, schedule), route_cost(graph, routes))
 
+    def test_no_policy_loses_less(self):
+        for place, graph in enumerate(tame_graphs(40, seed=18)):
+            routes = full_routes(graph)
+            told = [ring.nodes[place % ring.size] for ring in rings(graph)]
+            for sight in (0, 1, 6):
+                for policy in (Peek(), RoundFrom(graph, told), RoundFrom(graph, []),
+                               Sweep(graph, list(range(graph.size))[::-1])):
+                    runs, schedule = duel(RingAdversary(graph, routes, sight=sight), policy)
+                    self.assertGreaterEqual(loss(graph, runs, schedule), worth(graph))
+
+    def test_no_policy_loses_less_than_the_target(self):
+        for place, graph in enumerate(random_graphs(150, seed=19)):
+            if worth(graph) is None:
+                for policy in (Peek(), LeastNode(), MostLanes(), ByRow([0, 1, 1] * 50),
+                               Sweep(graph, list(range(graph.size)))):
+                    foe = WildAdversary(graph, 1 + place, sight=place % 4)
+                    runs, schedule = duel(foe, policy)
+                    dearest = max(price_of(graph, run) for run in runs)
+                    self.assertGreaterEqual(price_of(graph, schedule) - dearest, 1 + place)
+
     def test_the_best_policies_lose_just_the_worth(self):
         for graph in tame_graphs(60, seed=17):
             for policy in (BehindGap(graph), BehindNow(graph)):
@@ -124,10 +146,9 @@ class DuelTest(unittest.TestCase):
         self.assertEqual(foe.runs()[0], [0, 1, 2, 3])
         self.assertEqual(foe.schedule(), [0, 1, 2, 1, 2, 1, 2, 3])
 
-    def test_an_adversary_that_spoils_nothing(self):
+    def test_a_policy_that_spoils_what_it_is_shown(self):
         policy = Listening(LeastNode())
-        runs, schedule = duel(RingAdversary(self.graph, ROUTES, sight=2), policy)
-        self.assertEqual((runs, schedule),
+        self.assertEqual(duel(RingAdversary(self.graph, ROUTES, sight=2), policy),
                          duel(RingAdversary(self.graph, ROUTES, sight=2), LeastNode()))
 
 

@@ -20,6 +20,10 @@ KNOWN = set(
     "NotImplementedError AttributeError StopIteration iter next property".split())
 # L17: names that are used nowhere.
 BARRED = set("register mro elements open input law version_info with_traceback add_note".split())
+# L26: what values of builtin kinds have.
+BUILTIN_MEMBERS = {name for kind in (str, int, list, dict, set, bytes) for name in dir(kind)}
+# L23: calls that walk a zip, a range and the like at once.
+WALKERS = set("list tuple dict sorted sum any all min max enumerate zip reversed".split())
 STATEMENTS = (
     ast.Assign, ast.AugAssign, ast.If, ast.While, ast.For, ast.Return, ast.Break, ast.Continue,
     ast.Pass, ast.Raise, ast.Expr, ast.FunctionDef, ast.ClassDef, ast.ImportFrom, ast.Try,
@@ -185,6 +189,41 @@ class LanguageTest(unittest.TestCase):
                     self.assertNotIn(part.arg, taken, path)
                 if isinstance(part, ast.Name) and isinstance(part.ctx, ast.Store):
                     self.assertNotIn(part.id, taken, path)
+
+    def test_no_name_is_both_a_method_and_an_attribute(self):
+        methods, properties, attributes = set(), set(), set()
+        for _, _, tree in sources():
+            for part in ast.walk(tree):
+                if isinstance(part, ast.ClassDef):
+                    for member in part.body:
+                        if isinstance(member, ast.FunctionDef):
+                            (properties if member.decorator_list else methods).add(member.name)
+                if isinstance(part, ast.Attribute) and isinstance(part.ctx, ast.Store):
+                    attributes.add(part.attr)
+        self.assertEqual(methods & attributes, set())
+        self.assertEqual(properties & (methods | attributes), set())
+        self.assertEqual(attributes & BUILTIN_MEMBERS, set())
+        # Ledgers have an add of their own, so no set is stored anywhere.
+        self.assertEqual(methods & BUILTIN_MEMBERS - {"__init__", "__iter__", "__add__"}, {"add"})
+
+    def test_sets_and_views_are_used_at_once(self):
+        for path, _, tree in sources():
+            for part in ast.walk(tree):
+                for child in ast.iter_child_nodes(part):
+                    where = (path, getattr(child, "lineno", 0))
+                    if isinstance(child, (ast.Set, ast.SetComp)) or called(child) == "set":
+                        ok = isinstance(part, ast.Compare) or called(part) in ("sorted", "len")
+                        self.assertTrue(ok, where)
+                    if called(child) in ("zip", "enumerate", "range", "reversed", "items", "values"):
+                        ok = isinstance(part, (ast.For, ast.comprehension))
+                        self.assertTrue(ok or called(part) in WALKERS, where)
+
+
+def called(part):
+    """The name of what is called, or None."""
+    if not isinstance(part, ast.Call):
+        return None
+    return part.func.id if isinstance(part.func, ast.Name) else part.func.attr
 
 
 def defined(tree):
